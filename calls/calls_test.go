@@ -196,7 +196,9 @@ func TestP1CallsThatWrite(t *testing.T) {
 	ident.Put(api.Ident{})
 	strs.Build(nil)
 	strs.Build([]string{"", "a\x00b", "a", "a"})
+	dyn.Find(nil, 0)
 	dyn.Find(nil, top)
+	dyn.Find([]api.Dyn{{Tag: 1}, {}, {Tag: top, Val: top}}, top)
 	gnu.Hash("")
 	gnu.Hash("\xff\x00\xfe")
 	for _, big := range []bool{false, true} {
